@@ -1,0 +1,1 @@
+"""Eitherslack: presses and gaps, one of the two nought at each place."""
