@@ -13,6 +13,11 @@ def choices(many, least=0):
     return [text for text in texts if text.count("1") >= least]
 
 
+def chosen_places(choice):
+    """The numbers of the chosen places, rising."""
+    return [place for place, sign in enumerate(choice) if sign == "1"]
+
+
 def choice_number(choice):
     """The place of a choice among all of as many places, in order of texts."""
     # The length goes first: there would be far too many choices of a long text's places.

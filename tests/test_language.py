@@ -1,6 +1,7 @@
 """The package's files keep to the rules of its Python subset that can be seen file by file."""
 
 import ast
+import builtins
 import pathlib
 import re
 import unittest
@@ -14,6 +15,17 @@ INTERFACE = {
     ],
     "numbers": ["lowest", "total", "product", "below"],
     "choices": ["choices", "choice_number", "choice_at"],
+    "tables": ["Table"],
+    "answers": ["gaps", "fits", "is_answer", "answer_by", "all_answers"],
+    "exchanges": ["exchanged", "exchanged_start", "exchanged_presses"],
+    "judge": ["judge"],
+}
+METHODS = {
+    "Table": ["__len__", "__eq__", "__str__", "__repr__", "rows", "times", "turned", "cut", "minor", "minors"],
+}
+BUILTINS = {
+    "len", "range", "enumerate", "zip", "min", "max", "sum", "abs", "sorted", "reversed", "int", "str", "bool",
+    "list", "tuple", "dict", "set", "isinstance", "ord", "repr", "any", "all", "divmod", "super", "ValueError",
 }
 BARRED_WORDS = (
     r"\b(type|typing|typing_extensions|enum|Enum|IntEnum|StrEnum|Flag|IntFlag|Generic|Protocol|ABC"
@@ -22,6 +34,8 @@ BARRED_WORDS = (
 )
 FORBIDDEN_NODES = (
     ast.Global, ast.AsyncFunctionDef, ast.AsyncFor, ast.AsyncWith, ast.Await, ast.Import, ast.Div,
+    # Since a class has an __eq__, any, all and the like take lists.
+    ast.GeneratorExp,
 )
 
 
@@ -85,6 +99,58 @@ class LanguageTest(unittest.TestCase):
                     self.assertEqual(node.level, 0, file)
                     self.assertIn(node, tree.body, file)
                     self.assertTrue(node.module.startswith("eitherslack."), file)
+
+    def test_builtins(self):
+        for file, text, tree in each_file():
+            for node in ast.walk(tree):
+                if isinstance(node, ast.Name) and node.id in dir(builtins):
+                    self.assertIsInstance(node.ctx, ast.Load, file)
+                    self.assertIn(node.id, BUILTINS, file)
+                elif isinstance(node, (ast.FunctionDef, ast.ClassDef)):
+                    self.assertNotIn(node.name, dir(builtins), file)
+                elif isinstance(node, ast.arg):
+                    self.assertNotIn(node.arg, dir(builtins), file)
+
+    def test_is_stands_beside_none_true_and_false_alone(self):
+        for file, text, tree in each_file():
+            for node in ast.walk(tree):
+                if isinstance(node, ast.Compare):
+                    for sign, other in zip(node.ops, node.comparators):
+                        if isinstance(sign, (ast.Is, ast.IsNot)):
+                            self.assertIsInstance(other, ast.Constant, file)
+                            self.assertIn(other.value, (None, True, False), file)
+
+    def test_no_variable_has_the_name_of_an_import(self):
+        for file, text, tree in each_file():
+            imported = [name.asname or name.name for node in tree.body if isinstance(node, ast.ImportFrom)
+                        for name in node.names]
+            self.assertEqual(len(imported), len(set(imported)), file)
+            for node in ast.walk(tree):
+                if isinstance(node, ast.Name) and isinstance(node.ctx, ast.Store):
+                    self.assertNotIn(node.id, imported, file)
+                elif isinstance(node, ast.arg):
+                    self.assertNotIn(node.arg, imported, file)
+            used = [node.id for node in ast.walk(tree) if isinstance(node, ast.Name)]
+            for name in imported:
+                self.assertIn(name, used, file)
+
+    def test_no_name_is_a_method_and_an_attribute(self):
+        methods, attributes = set(), set()
+        for file, text, tree in each_file():
+            for node in ast.walk(tree):
+                if isinstance(node, ast.ClassDef):
+                    methods |= {part.name for part in node.body if isinstance(part, ast.FunctionDef)}
+                elif isinstance(node, ast.Attribute) and isinstance(node.ctx, ast.Store):
+                    attributes.add(node.attr)
+        self.assertEqual(methods & attributes, set())
+
+    def test_methods_are_defined_in_their_classes(self):
+        for file, text, tree in each_file():
+            for node in tree.body:
+                if isinstance(node, ast.ClassDef) and node.name in METHODS:
+                    defined = [part.name for part in node.body if isinstance(part, ast.FunctionDef)]
+                    for name in METHODS[node.name]:
+                        self.assertEqual(defined.count(name), 1, (file, name))
 
     def test_the_interface_is_defined_in_its_files(self):
         for file, names in INTERFACE.items():
