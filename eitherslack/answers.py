@@ -3,15 +3,14 @@
 from eitherslack.checks import check_few, check_not_flat, check_row
 from eitherslack.choices import choices, chosen_places
 from eitherslack.elimination import solutions
-from eitherslack.numbers import total
-from eitherslack.rows import NOUGHT, all_above, negative, none_below
+from eitherslack.rows import NOUGHT, all_above, negative, none_below, put_to, spread
 
 
 def gaps(table, start, presses):
     """The start and the table times the presses, put together place by place."""
     check_row(table, start)
     check_row(table, presses)
-    return [total([before, lift]) for before, lift in zip(start, table.times(presses))]
+    return put_to(start, table.times(presses))
 
 
 def fits(table, start, presses):
@@ -35,13 +34,7 @@ def pressed(table, starts, choice):
     places = chosen_places(choice)
     wanted = [[negative(start[place]) for start in starts] for place in places]
     found = solutions(table.square(choice), wanted)
-    result = []
-    for number in range(len(starts)):
-        presses = [NOUGHT] * len(table)
-        for place, row in zip(places, found):
-            presses[place] = row[number]
-        result.append(presses)
-    return result
+    return [spread(choice, [row[number] for row in found]) for number in range(len(starts))]
 
 
 def answer_by(table, start, choice):

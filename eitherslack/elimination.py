@@ -16,15 +16,15 @@ def with_pivot(rows, at):
     return None
 
 
-def cleared_column(rows, at, last_pivot):
-    """The rows with 0 in the column at, but for the row at."""
+def cleared_column(rows, at, column, last_pivot):
+    """The rows with 0 in the column, but for the row at."""
     pivot_row = rows[at]
-    pivot = pivot_row[at]
+    pivot = pivot_row[column]
     result = []
     for place, row in enumerate(rows):
         if place != at:
             # Each of these numbers is a determinant times the last pivot: the division leaves no rest.
-            row = [(pivot * number - row[at] * above) // last_pivot for number, above in zip(row, pivot_row)]
+            row = [(pivot * number - row[column] * above) // last_pivot for number, above in zip(row, pivot_row)]
         result.append(row)
     return result
 
@@ -41,7 +41,7 @@ def cleared(rows):
         if result is None:
             return 0, []
         last_pivot, pivot = pivot, result[at][at]
-        result = cleared_column(result, at, last_pivot)
+        result = cleared_column(result, at, at, last_pivot)
     return pivot, result
 
 

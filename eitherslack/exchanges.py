@@ -2,15 +2,8 @@
 
 from eitherslack.answers import gaps, pressed
 from eitherslack.checks import check_not_flat, check_row
-from eitherslack.rows import NOUGHT, ONE, put_together
+from eitherslack.rows import ONE, put_together, single
 from eitherslack.tables import Table
-
-
-def single(table, place, number):
-    """The row that has the number at one place and 0 at the others."""
-    row = [NOUGHT] * len(table)
-    row[place] = number
-    return row
 
 
 def exchanged_columns(table, choice):
@@ -19,10 +12,10 @@ def exchanged_columns(table, choice):
     for place, column in enumerate(table.turned().rows()):
         # What goes with a 1 at this place alone: a gap of 1 is one of 0 from a start of -1,
         # a press of 1 leaves the place's column as the start of the chosen ones.
-        starts.append(single(table, place, (-1, 1)) if choice[place] == "1" else column)
+        starts.append(single(len(table), place, (-1, 1)) if choice[place] == "1" else column)
     columns = []
     for place, found in enumerate(pressed(table, starts, choice)):
-        presses = put_together(choice, found, single(table, place, ONE))
+        presses = put_together(choice, found, single(len(table), place, ONE))
         columns.append(put_together(choice, presses, table.times(presses)))
     return columns
 

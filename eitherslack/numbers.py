@@ -1,13 +1,7 @@
 """Fractions: plain tuples (top, bottom) in lowest terms, bottom from 1 on."""
 
+from eitherslack.divisors import common_divisor
 from eitherslack.errors import NoNumber
-
-
-def common_divisor(one, other):
-    """The greatest number that divides both; 0 where both are 0."""
-    while other != 0:
-        one, other = other, one % other
-    return abs(one)
 
 
 def lowest(top, bottom=1):

@@ -5,6 +5,7 @@ import random
 import unittest
 from fractions import Fraction
 from itertools import product
+from math import gcd
 
 PLACES = range(1, 6)
 
@@ -149,6 +150,28 @@ def several_answers(many):
     return rows, [Fraction(2 + place) for place in range(many)]
 
 
+def is_number(thing):
+    return type(thing) is tuple and len(thing) == 2 and type(thing[0]) is int
+
+
+def lists_in(thing):
+    """All lists in a told thing, all the way down."""
+    found = [thing] if isinstance(thing, list) else []
+    if isinstance(thing, (list, tuple)) and not is_number(thing):
+        for part in thing:
+            found += lists_in(part)
+    return found
+
+
+def numbers_in(thing):
+    """All fractions in a told thing, all the way down."""
+    if is_number(thing):
+        return [thing]
+    if isinstance(thing, (list, tuple)):
+        return [number for part in thing for number in numbers_in(part)]
+    return []
+
+
 class SlackCase(unittest.TestCase):
     def asked(self, function, *arguments, **named):
         """What the function tells, asked twice: the same each time, and nothing handed in is changed."""
@@ -190,3 +213,21 @@ class SlackCase(unittest.TestCase):
     def wrong_lengths(self, row):
         """The row shortened and lengthened, and an empty one."""
         return [[], row[:-1], row + [(0, 1)], row + row[:1] * 295]
+
+    def check_own(self, ask, *handed):
+        """What is told is the asker's own, all the way down; told is what ask tells."""
+        answer = ask()
+        before = copy.deepcopy(answer)
+        found = lists_in(answer)
+        theirs = {id(thing) for part in handed for thing in lists_in(part)}
+        self.assertEqual(len({id(thing) for thing in found} - theirs), len(found), answer)
+        for number in numbers_in(answer):
+            self.check_plain(number)
+            self.assertTrue(number[1] >= 1 and gcd(*number) == 1, number)
+        for thing in found[::-1]:
+            thing.append((77, 1))
+            thing[0] = [(5, 3)]
+            if len(thing) > 2:
+                del thing[1]
+        self.assertEqual(ask(), before)
+        return before

@@ -19,9 +19,13 @@ INTERFACE = {
     "answers": ["gaps", "fits", "is_answer", "answer_by", "all_answers"],
     "exchanges": ["exchanged", "exchanged_start", "exchanged_presses"],
     "judge": ["judge"],
+    "finder": ["settled"],
+    "least": ["least_answer", "least_holds"],
+    "ways": ["Way", "way", "level_answer"],
 }
 METHODS = {
     "Table": ["__len__", "__eq__", "__str__", "__repr__", "rows", "times", "turned", "cut", "minor", "minors"],
+    "Way": ["__len__", "__eq__", "__str__", "steps", "answer", "ray"],
 }
 BUILTINS = {
     "len", "range", "enumerate", "zip", "min", "max", "sum", "abs", "sorted", "reversed", "int", "str", "bool",
