@@ -22,10 +22,15 @@ INTERFACE = {
     "finder": ["settled"],
     "least": ["least_answer", "least_holds"],
     "ways": ["Way", "way", "level_answer"],
+    "signs": ["turning", "clean"],
+    "lines": ["along", "answer_at"],
+    "texts": ["row_text", "saying_text", "paper_text", "read_row", "read_table", "read_saying", "read_paper"],
+    "desk": ["Desk"],
 }
 METHODS = {
     "Table": ["__len__", "__eq__", "__str__", "__repr__", "rows", "times", "turned", "cut", "minor", "minors"],
     "Way": ["__len__", "__eq__", "__str__", "steps", "answer", "ray"],
+    "Desk": ["tell"],
 }
 BUILTINS = {
     "len", "range", "enumerate", "zip", "min", "max", "sum", "abs", "sorted", "reversed", "int", "str", "bool",
